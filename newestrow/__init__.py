@@ -1,0 +1,1 @@
+"""Newestrow: what concurrent transactions can do to a table, decided row by row."""

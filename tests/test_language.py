@@ -1,0 +1,98 @@
+"""The rules of the language that can be looked up in the files of the package one by one."""
+
+import ast
+import pathlib
+import symtable
+import unittest
+
+FOLDER = pathlib.Path(__file__).resolve().parent.parent / "newestrow"
+FILES = sorted(path for path in FOLDER.rglob("*.py"))
+BUILTINS = set(
+    "len range enumerate zip min max sum abs sorted reversed int str bool bytes list tuple dict set frozenset isinstance "
+    "ord repr any all divmod pow getattr hasattr setattr iter next map Exception ValueError TypeError KeyError IndexError "
+    "LookupError ZeroDivisionError ArithmeticError OverflowError RuntimeError NotImplementedError AttributeError "
+    "StopIteration NotImplemented".split()
+)
+LIBRARY = {"heapq", "math", "itertools", "collections"}
+BARRED_NODES = (
+    ast.Global, ast.AsyncFunctionDef, ast.AsyncFor, ast.AsyncWith, ast.Await, ast.Div, ast.MatMult, ast.Import,
+    ast.MatchMapping,
+)
+WITH_LISTS = {"any", "all", "min", "max", "sum", "sorted"}
+BARRED_NAMES = {"register", "mro", "elements", "open", "input", "law", "version_info", "with_traceback", "add_note",
+                "type", "typing", "enum", "eval", "exec", "compile", "dir", "vars", "id", "globals", "locals"}
+
+
+def trees():
+    """Give the path, the text and the tree of each file."""
+    for path in FILES:
+        text = path.read_text("utf-8")
+        yield path, text, ast.parse(text)
+
+
+def global_names(table):
+    """Return the names that a scope and those in it read as globals or builtins."""
+    found = {symbol.get_name() for symbol in table.get_symbols() if symbol.is_global() and symbol.is_referenced()}
+    return found.union(*[global_names(child) for child in table.get_children()])
+
+
+class LanguageTest(unittest.TestCase):
+    def test_there_are_only_python_files(self):
+        self.assertIn("__init__.py", [path.name for path in FILES])
+        for path in FOLDER.rglob("*"):
+            if "__pycache__" not in path.parts:
+                self.assertTrue(path.is_dir() or path.suffix == ".py", path)
+                self.assertEqual(path.name, path.name.lower())
+
+    def test_characters_and_sizes(self):
+        for path, text, tree in trees():
+            lines = text.split("\n")
+            self.assertLessEqual(len(lines) - 1, 399, path)
+            for at, line in enumerate(lines, start=1):
+                self.assertLessEqual(len(line), 120, (path.name, at))
+                self.assertTrue(all(" " <= letter <= "~" for letter in line), (path.name, at))
+            for node in ast.walk(tree):
+                if isinstance(node, ast.FunctionDef):
+                    self.assertLessEqual(node.end_lineno - node.lineno + 1, 40, (path.name, node.name))
+
+    def test_strings(self):
+        for path, _, tree in trees():
+            for node in ast.walk(tree):
+                if isinstance(node, ast.Constant):
+                    self.assertNotIsInstance(node.value, (float, complex), (path.name, node.lineno))
+                    if isinstance(node.value, str):
+                        self.assertNotIn("%", node.value, (path.name, node.lineno))
+
+    def test_imports(self):
+        for path, _, tree in trees():
+            for at, node in enumerate(tree.body):
+                if isinstance(node, ast.ImportFrom):
+                    self.assertEqual(node.level, 0, path)
+                    before = tree.body[:at]
+                    self.assertTrue(all(isinstance(part, (ast.Expr, ast.ImportFrom)) for part in before), path)
+                    if node.module.split(".")[0] in LIBRARY:
+                        continue
+                    source = FOLDER.parent.joinpath(*node.module.split(".")).with_suffix(".py")
+                    bound = {getattr(part, "name", None) for part in ast.parse(source.read_text("utf-8")).body}
+                    bound |= {part.targets[0].id for part in ast.parse(source.read_text("utf-8")).body
+                              if isinstance(part, ast.Assign)}
+                    for alias in node.names:
+                        self.assertIn(alias.name, bound, (path.name, node.lineno))
+
+    def test_statements_and_names(self):
+        for path, text, tree in trees():
+            for node in ast.walk(tree):
+                self.assertNotIsInstance(node, BARRED_NODES, (path.name, getattr(node, "lineno", 0)))
+                for field in ("id", "attr", "name", "arg"):
+                    self.assertNotIn(getattr(node, field, None), BARRED_NAMES, (path.name, getattr(node, "lineno", 0)))
+                if isinstance(node, ast.Call) and getattr(node.func, "id", "") in WITH_LISTS:
+                    self.assertNotIsInstance(node.args[0], ast.GeneratorExp, (path.name, node.lineno))
+            scopes = symtable.symtable(text, path.name, "exec")
+            bound = {symbol.get_name() for symbol in scopes.get_symbols() if symbol.is_assigned() or symbol.is_imported()
+                     or symbol.is_namespace()}
+            self.assertLessEqual(global_names(scopes) - bound, BUILTINS, path.name)
+            self.assertFalse(bound & BUILTINS, path.name)
+
+
+if __name__ == "__main__":
+    unittest.main()
