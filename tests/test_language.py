@@ -13,6 +13,7 @@ BUILTINS = set(
     "LookupError ZeroDivisionError ArithmeticError OverflowError RuntimeError NotImplementedError AttributeError "
     "StopIteration NotImplemented".split()
 )
+DECORATORS = {"property", "staticmethod", "classmethod"}
 LIBRARY = {"heapq", "math", "itertools", "collections"}
 BARRED_NODES = (
     ast.Global, ast.AsyncFunctionDef, ast.AsyncFor, ast.AsyncWith, ast.Await, ast.Div, ast.MatMult, ast.Import,
@@ -90,8 +91,35 @@ class LanguageTest(unittest.TestCase):
             scopes = symtable.symtable(text, path.name, "exec")
             bound = {symbol.get_name() for symbol in scopes.get_symbols() if symbol.is_assigned() or symbol.is_imported()
                      or symbol.is_namespace()}
-            self.assertLessEqual(global_names(scopes) - bound, BUILTINS, path.name)
-            self.assertFalse(bound & BUILTINS, path.name)
+            self.assertLessEqual(global_names(scopes) - bound, BUILTINS | DECORATORS, path.name)
+            self.assertFalse(bound & (BUILTINS | DECORATORS), path.name)
+
+    def test_decorators(self):
+        for path, _, tree in trees():
+            methods = [part for node in ast.walk(tree) if isinstance(node, ast.ClassDef) for part in node.body
+                       if isinstance(part, ast.FunctionDef)]
+            used = [part for node in methods for part in node.decorator_list if getattr(part, "attr", "") != "setter"]
+            self.assertLessEqual({getattr(part, "id", "") for part in used}, DECORATORS, path.name)
+            for node in ast.walk(tree):
+                if isinstance(node, ast.ClassDef) or isinstance(node, ast.FunctionDef) and node not in methods:
+                    self.assertFalse(node.decorator_list, (path.name, node.name))
+                if isinstance(node, ast.Name) and node.id in DECORATORS:
+                    self.assertIn(node, used, (path.name, node.lineno))
+
+    def test_generators_have_names_of_their_own(self):
+        functions = [node for _, _, tree in trees() for node in ast.walk(tree) if isinstance(node, ast.FunctionDef)]
+        names = [node.name for node in functions]
+        for node in functions:
+            if any(isinstance(part, (ast.Yield, ast.YieldFrom)) for part in ast.walk(node)):
+                self.assertEqual(names.count(node.name), 1, node.name)
+
+    def test_what_len_returns(self):
+        for path, _, tree in trees():
+            for node in ast.walk(tree):
+                if isinstance(node, ast.FunctionDef) and node.name == "__len__":
+                    for part in ast.walk(node):
+                        if isinstance(part, ast.Return):
+                            self.assertEqual(part.value.func.id, "len", (path.name, part.lineno))
 
 
 if __name__ == "__main__":
