@@ -74,6 +74,12 @@ def is_session(session, table):
     return len(session) > 0 and all([other == table for other in tables])
 
 
+def kinds_of(table, names):
+    """Return what a row can be at the beginning, and for each of these names that it can be missing."""
+    values = table.all_values()
+    return [(None, row) for row in values] + [(name, row) for name in names for row in [None, *values]]
+
+
 def session_events(number, session):
     """Return the events of a session in order as (session, transaction, event)."""
     return [(number, at, event) for at, transaction in enumerate(session) for event in transaction.events()]
@@ -192,9 +198,7 @@ class Mix:
 
     def kinds(self):
         """Return what a row can be at the beginning, and for each name that it can be missing."""
-        values = self.table.all_values()
-        named = [(name, row) for name in self.names() for row in [None, *values]]
-        return [(None, row) for row in values] + named
+        return kinds_of(self.table, self.names())
 
     def events(self):
         """Return a list for each session with its events in order, as (session, transaction, event)."""

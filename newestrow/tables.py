@@ -1,19 +1,15 @@
 """Tables: the columns that a row has, and the values that it can have in them."""
 
 from newestrow.errors import BadTable
+from newestrow.shapes import is_integer, is_tuple_of
 from newestrow.texts import is_word
 
 RESERVED = ("and", "or", "not", "true", "false", "name", "where", "nothing", "change")
 
 
-def is_integer(thing):
-    """Tell whether any value is an integer; True and False are none."""
-    return isinstance(thing, int) and not isinstance(thing, bool)
-
-
 def is_column(thing):
     """Tell whether any value is a column."""
-    if not isinstance(thing, tuple) or len(thing) != 2:
+    if not is_tuple_of(thing, 2):
         return False
     name, top = thing
     return is_word(name) and name not in RESERVED and is_integer(top) and 1 <= top <= 3
@@ -44,7 +40,7 @@ class Table:
         return len(self.columns)
 
     def __contains__(self, thing):
-        if not isinstance(thing, tuple) or len(thing) != len(self.tops):
+        if not is_tuple_of(thing, len(self.tops)):
             return False
         return all([is_integer(value) and 0 <= value <= top for value, top in zip(thing, self.tops)])
 

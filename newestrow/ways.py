@@ -1,7 +1,9 @@
 """The way of one row through a weaving, and the acts that bar the row from it."""
 
+from newestrow.effects import concerns, effect_of, is_about_rows
 from newestrow.errors import BadKind, Bars
 from newestrow.mixes import END
+from newestrow.shapes import is_tuple_of
 from newestrow.weavings import check_possible, position_of
 
 # A version of a row is None where there is no row, otherwise a pair (life, values). The life is
@@ -9,9 +11,9 @@ from newestrow.weavings import check_possible, position_of
 BEGINNING = -1
 
 
-def is_about_rows(statement):
-    """Tell whether a statement looks at rows or holds them."""
-    return statement.word == "look" or statement.mode is not None
+def values_of(version):
+    """Return the values of a version, None if it is no row."""
+    return None if version is None else version[1]
 
 
 def first_about_rows(transaction):
@@ -84,53 +86,20 @@ def own_versions(row, transaction, position):
     return [version for span, version in row.writes if span.transaction == transaction and span.release >= position]
 
 
-def holds(row, span, version):
-    """Tell whether there is a row in this version and the condition of the statement holds for it."""
-    if version is None:
-        return False
-    condition = span.statement.condition
-    return condition(version[1], row.name)
-
-
-def concerns(row, span, seen):
-    """Tell whether a statement that sees this version has to do with the row."""
-    if span.statement.word == "put":
-        return span.statement.name == row.name
-    return holds(row, span, seen)
-
-
 def give(row, span, values):
     """Note that a statement returned the row; what an undone one returned does not count."""
     if span.unit in row.returned:
         row.returned[span.unit] = values
 
 
-def change(row, span, version):
-    """Give the row new values; it stays the same life."""
-    life, values = version
-    fresh = span.statement.new_values(values)
-    row.writes.append((span, (life, fresh)))
-    give(row, span, fresh)
-
-
-def put(row, span, version):
-    """Let a `put` do its work on the version that it reads."""
-    if version is None:
-        inserted = span.statement.inserted
-        row.writes.append((span, (span.position, inserted)))
-        give(row, span, inserted)
-    elif span.statement.condition is not None and holds(row, span, version):
-        change(row, span, version)
-
-
 def work(row, span, version):
-    """Let a statement that chose the row do its work on the version that it reads."""
-    if span.statement.word == "change":
-        change(row, span, version)
-        return
-    if span.statement.word == "remove":
-        row.writes.append((span, None))
-    give(row, span, version[1])
+    """Let a statement do its work on the version that it reads; a row that it inserts is a new life."""
+    life, values = (span.position, None) if version is None else version
+    writes, fresh, returned = effect_of(span.statement, row.name, values)
+    if writes:
+        row.writes.append((span, None if fresh is None else (life, fresh)))
+    if returned is not None:
+        give(row, span, returned)
 
 
 def go_through(row, span):
@@ -140,7 +109,7 @@ def go_through(row, span):
     _, seen = committed_before(row, span.snapshot)
     if own:
         seen = current = own[-1]
-    if not concerns(row, span, seen):
+    if not concerns(span.statement, row.name, values_of(seen)):
         return
     if span.statement.word == "look":
         give(row, span, seen[1])
@@ -150,10 +119,10 @@ def go_through(row, span):
         row.bars.append((span.position, written_at))
     if span.statement.word == "put":
         row.acts.append(span)
-        put(row, span, current)
+        work(row, span, current)
     elif current is not None and current[0] == seen[0]:
         row.acts.append(span)
-        if not renewed or holds(row, span, current):
+        if not renewed or concerns(span.statement, row.name, current[1]):
             work(row, span, current)
 
 
@@ -164,10 +133,10 @@ def commit(row, transaction, position):
         row.commits.append((position, own[-1]))
 
 
-def gone_row(mix, weaving, kind):
-    """Return the row of a kind behind a weaving that is possible, also if the row bars it."""
-    row = Row(kind, mix.units())
-    for position, (span, transaction) in enumerate(woven_steps(mix, weaving)):
+def gone_row(steps, units, kind):
+    """Return the row of a kind behind all steps of a weaving that is possible, also if the row bars it."""
+    row = Row(kind, units)
+    for position, (span, transaction) in enumerate(steps):
         if span is not None:
             go_through(row, span)
         if transaction is not None:
@@ -185,9 +154,35 @@ def overlaps(acts):
     ]
 
 
-def values_of(version):
-    """Return the values of a version, None if it is no row."""
-    return None if version is None else version[1]
+def bars_of(row):
+    """Return pairs (second, first) of all that bars the row."""
+    return row.bars + overlaps(row.acts)
+
+
+def outcomes_in(mix, weaving, kinds, units):
+    """Return what becomes of a row of each kind in a weaving that is possible: (end, what the units returned).
+
+    It is None for a kind that bars. A name that the mix does not mention makes no difference to it.
+    """
+    steps = woven_steps(mix, weaving)
+    found = []
+    for kind in kinds:
+        row = gone_row(steps, units, kind)
+        returned = tuple([row.returned[unit] for unit in units])
+        found.append(None if bars_of(row) else (values_of(row.commits[-1][1]), returned))
+    return found
+
+
+def versions_of(row):
+    """Return pairs (position, values or None) of the commits that wrote the row."""
+    return tuple([(position, values_of(version)) for position, version in row.commits[1:]])
+
+
+def committed_values(mix, weaving, kinds):
+    """Return for each kind what commits write of it in a weaving that is possible, () for a kind that bars."""
+    steps = woven_steps(mix, weaving)
+    found = [gone_row(steps, [], kind) for kind in kinds]
+    return [() if bars_of(row) else versions_of(row) for row in found]
 
 
 class Way:
@@ -197,7 +192,7 @@ class Way:
         self.kind = kind
         self.end = values_of(row.commits[-1][1])
         self.returned = {unit: row.returned[unit] for unit in row.returned}
-        self.versions = tuple([(position, values_of(version)) for position, version in row.commits[1:]])
+        self.versions = versions_of(row)
         self.acts = tuple(sorted([(span.position, span.statement.mode, span.release) for span in row.acts]))
 
     def __eq__(self, other):
@@ -209,7 +204,7 @@ class Way:
 
 def is_kind(thing, mix):
     """Tell whether any value is a kind of the mix."""
-    if not isinstance(thing, tuple) or len(thing) != 2:
+    if not is_tuple_of(thing, 2):
         return False
     name, values = thing
     if name is None:
@@ -222,8 +217,8 @@ def way(mix, weaving, kind):
     check_possible(mix, weaving)
     if not is_kind(kind, mix):
         raise BadKind(kind)
-    row = gone_row(mix, weaving, kind)
-    bars = row.bars + overlaps(row.acts)
+    row = gone_row(woven_steps(mix, weaving), mix.units(), kind)
+    bars = bars_of(row)
     if bars:
         second, first = min(bars)
         raise Bars(0, first, second)

@@ -4,7 +4,7 @@ from math import comb
 
 from newestrow.errors import BadWeaving, NotPossible, TooMany
 from newestrow.mixes import END
-from newestrow.tables import is_integer
+from newestrow.shapes import is_integer, is_integers
 
 # How a transaction holds the table as a whole.
 FREE = 0
@@ -127,6 +127,30 @@ def check_possible(mix, weaving):
         holds[session] = max(holds[session], hold)
 
 
+def is_possible(mix, weaving):
+    """Tell whether no event of a weaving is blocked."""
+    try:
+        check_possible(mix, weaving)
+    except NotPossible:
+        return False
+    return True
+
+
+def possible_weavings(mix):
+    """Give all possible weavings of a mix, ascending."""
+    weavings = Weavings(mix)
+    for weaving in weavings.each():
+        if is_possible(mix, weaving):
+            yield weaving
+
+
+def check_ways(kinds, mix):
+    """Raise TooMany if there are too many kinds and weavings to go through them all."""
+    weavings = Weavings(mix)
+    if len(kinds) * len(weavings) > 20000:
+        raise TooMany("ways")
+
+
 def order_sequences(mix, by):
     """Return a list for each session with what an order arranges of it."""
     found = [[] for _ in mix.sessions]
@@ -138,6 +162,21 @@ def order_sequences(mix, by):
             if mix.sessions[session][at].ends == "commit":
                 found[session].append((session, at))
     return found
+
+
+def is_order(mix, thing, by):
+    """Tell whether any value is an order of the mix by transactions or by statements."""
+    sequences = order_sequences(mix, by)
+    if not isinstance(thing, tuple):
+        return False
+    merge = []
+    for part in thing:
+        if not is_integers(part) or not part or not 0 <= part[0] < len(sequences):
+            return False
+        merge.append(part[0])
+    if wrong_index(tuple(merge), [len(sequence) for sequence in sequences]) is not None:
+        return False
+    return tuple(merged(sequences, merge)) == thing
 
 
 def orders(mix, *, by="transactions"):

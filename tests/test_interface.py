@@ -10,6 +10,13 @@ FUNCTIONS = {
     ("weavings", "check_possible"): ["mix", "weaving"],
     ("weavings", "orders"): ["mix", "*", "by='transactions'"],
     ("ways", "way"): ["mix", "weaving", "kind"],
+    ("results", "result"): ["mix", "weaving", "database"],
+    ("results", "serial_result"): ["mix", "order", "database"],
+    ("judging", "judge"): ["mix", "*", "by='transactions'", "returns=True"],
+    ("looker", "is_certificate"): ["mix", "thing", "*", "by='transactions'", "returns=True"],
+    ("looker", "is_standing"): ["one", "other", "thing", "*", "company=None", "returns=True", "strict=False"],
+    ("replacing", "joined"): ["company", "part"],
+    ("replacing", "stands_for"): ["one", "other", "*", "company=None", "returns=True", "strict=False"],
 }
 CLASSES = {
     ("statements", "Statement"): {
@@ -27,6 +34,9 @@ CLASSES = {
         "__init__": ["self", "mix"], "__len__": ["self"], "each": ["self"], "__contains__": ["self", "thing"],
     },
     ("ways", "Way"): {"__eq__": ["self", "other"]},
+    ("results", "Result"): {"__eq__": ["self", "other"]},
+    ("judging", "Verdict"): {"__bool__": ["self"], "__len__": ["self"]},
+    ("replacing", "Standing"): {"__bool__": ["self"], "__len__": ["self"]},
 }
 
 

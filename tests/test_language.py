@@ -113,6 +113,32 @@ class LanguageTest(unittest.TestCase):
             if any(isinstance(part, (ast.Yield, ast.YieldFrom)) for part in ast.walk(node)):
                 self.assertEqual(names.count(node.name), 1, node.name)
 
+    def test_names_are_methods_or_attributes(self):
+        methods, attributes = set(), set()
+        for _, _, tree in trees():
+            for node in ast.walk(tree):
+                if isinstance(node, ast.ClassDef):
+                    methods |= {part.name for part in node.body if isinstance(part, ast.FunctionDef)}
+                if isinstance(node, ast.Attribute) and isinstance(node.ctx, ast.Store):
+                    attributes.add(node.attr)
+        self.assertFalse(methods & attributes)
+
+    def test_no_variable_has_the_name_of_a_class_or_an_import(self):
+        for path, _, tree in trees():
+            taken = {part.name for part in tree.body if isinstance(part, ast.ClassDef)}
+            taken |= {alias.name for part in tree.body if isinstance(part, ast.ImportFrom) for alias in part.names}
+            for node in ast.walk(tree):
+                if isinstance(node, ast.arg):
+                    self.assertNotIn(node.arg, taken, path.name)
+                if isinstance(node, ast.Name) and isinstance(node.ctx, ast.Store):
+                    self.assertNotIn(node.id, taken, (path.name, node.lineno))
+
+    def test_no_star_in_an_index(self):
+        for path, _, tree in trees():
+            for node in ast.walk(tree):
+                if isinstance(node, ast.Subscript):
+                    self.assertFalse([part for part in ast.walk(node.slice) if isinstance(part, ast.Starred)], (path.name, node.lineno))
+
     def test_what_len_returns(self):
         for path, _, tree in trees():
             for node in ast.walk(tree):
