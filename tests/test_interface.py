@@ -15,6 +15,15 @@ FUNCTIONS = {
     ("judging", "judge"): ["mix", "*", "by='transactions'", "returns=True"],
     ("looker", "is_certificate"): ["mix", "thing", "*", "by='transactions'", "returns=True"],
     ("looker", "is_standing"): ["one", "other", "thing", "*", "company=None", "returns=True", "strict=False"],
+    ("repairs", "with_table"): ["mix", "chosen"],
+    ("repairs", "raised"): ["mix", "chosen"],
+    ("repairs", "least_table"): ["mix", "*", "by='transactions'", "returns=True"],
+    ("repairs", "least_raised"): ["mix", "*", "by='transactions'", "returns=True"],
+    ("repairs", "first_broken"): ["mix", "condition"],
+    ("tracing", "trace"): ["mix", "history", "*", "by='weavings'"],
+    ("tracing", "is_trace"): ["mix", "history", "thing", "*", "by='weavings'"],
+    ("runs", "play"): ["mix", "weaving", "database"],
+    ("runs", "drive"): ["mix", "database", "picks"],
     ("replacing", "joined"): ["company", "part"],
     ("replacing", "stands_for"): ["one", "other", "*", "company=None", "returns=True", "strict=False"],
 }
@@ -37,6 +46,15 @@ CLASSES = {
     ("results", "Result"): {"__eq__": ["self", "other"]},
     ("judging", "Verdict"): {"__bool__": ["self"], "__len__": ["self"]},
     ("replacing", "Standing"): {"__bool__": ["self"], "__len__": ["self"]},
+    ("tracing", "Trace"): {"__bool__": ["self"], "__len__": ["self"]},
+    ("engine", "Database"): {
+        "__init__": ["self", "table", "rows"], "committed": ["self"], "begin": ["self", "*", "level='committed'"],
+    },
+    ("engine", "Session"): {
+        "start": ["self", "statement"], "visit": ["self", "target"], "finish": ["self"], "do": ["self", "statement"],
+        "commit": ["self"], "undo": ["self"],
+    },
+    ("runs", "Run"): {},
 }
 
 
@@ -61,6 +79,10 @@ class InterfaceTest(unittest.TestCase):
                 with self.subTest(cls=name, method=method):
                     self.assertIn(method, vars(cls))
                     self.assertEqual(parameters(getattr(cls, method)), wanted)
+
+    def test_is_open_is_a_property_of_sessions(self):
+        cls = importlib.import_module("newestrow.engine").Session
+        self.assertIsInstance(vars(cls)["is_open"], property)
 
     def test_each_gives_one_by_one(self):
         cls = importlib.import_module("newestrow.weavings").Weavings
