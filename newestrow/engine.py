@@ -160,7 +160,10 @@ class Session:
         if statement.word == "put":
             work.left[statement.name] = statement.name
             return work
-        seen = {**self._store.seen_at(self._snapshot), **self._own_versions()}
+        seen = self._store.seen_at(self._snapshot)
+        own = self._own_versions()
+        for place in own:
+            seen[place] = own[place]
         for place, version in seen.items():
             if version is not None and concerns(statement, name_of(place), version[1]):
                 work.note(place, version)
@@ -173,8 +176,8 @@ class Session:
         own = self._own_versions()
         version = own[place] if place in own else self._store.newest(place)
         tag, values = (None, None) if version is None else version
-        renewed = place not in own and self._store.is_written_since(place, self._snapshot)
-        if renewed and not concerns(statement, name_of(place), values):
+        # This can differ from what the statement saw only if a commit has written the place since.
+        if not concerns(statement, name_of(place), values):
             return
         writes, fresh, returned = effect_of(statement, name_of(place), values)
         if tag is None:

@@ -1,10 +1,11 @@
 """Which of many candidates explain what a weaving does to rows, and which few rows none of them explains.
 
-Candidates are orders, or weavings of another mix. A mask is an integer with a bit for each of
-them; that of a kind in a weaving tells which of them give a row of this kind the same outcome.
-Candidates explain rows one by one, so those that explain several rows are the common bits.
+Candidates are orders, or weavings of another mix, and have numbers. The mask of a kind in a weaving
+tells which of them give a row of this kind the same outcome. Candidates explain rows one by one, so
+those that explain several rows are common to their masks.
 """
 
+from newestrow.masks import common, has_number, is_empty, lowest, mask_of
 from newestrow.mixes import kinds_of
 from newestrow.shapes import is_exact
 from newestrow.weavings import possible_weavings
@@ -40,32 +41,41 @@ class Candidates:
     def __init__(self, things, outcomes, *, sessions=None):
         self.things = list(things)
         self._sessions = sessions
-        self._bits = {thing: 1 << number for number, thing in enumerate(things)}
-        self._masks = [{} for _ in outcomes[0]]
-        for number, row in enumerate(outcomes):
-            for at, outcome in enumerate(row):
-                if outcome is not None:
-                    self._masks[at][outcome] = self._masks[at].get(outcome, 0) | (1 << number)
+        self._numbers = {thing: number for number, thing in enumerate(things)}
+        self._every = self.mask(list(self._numbers.values()))
+        self._masks = []
+        for at in range(len(outcomes[0])):
+            self._masks.append(self._grouped([row[at] for row in outcomes]))
         self._groups = {}
         if sessions is not None:
-            for thing in self.things:
-                group = company_order(thing, sessions)
-                self._groups[group] = self._groups.get(group, 0) | self._bits[thing]
+            self._groups = self._grouped([company_order(thing, sessions) for thing in things])
 
-    def bit_of(self, thing):
-        """Return the mask of any value alone, 0 if it is no candidate."""
-        return self._bits.get(thing, 0) if is_exact(thing) else 0
+    def _grouped(self, values):
+        """Return a dict from each of these values, one for each candidate, to the mask of those that have it."""
+        found = {}
+        for number, value in enumerate(values):
+            found.setdefault(value, []).append(number)
+        return {value: self.mask(numbers) for value, numbers in found.items()}
+
+    def mask(self, numbers):
+        """Return the mask of candidates with these numbers."""
+        return mask_of(numbers, len(self.things))
+
+    def number_of(self, thing):
+        """Return the number of any value, None if it is no candidate."""
+        return self._numbers.get(thing) if is_exact(thing) else None
 
     def whole(self, weaving):
         """Return the mask of all candidates that may explain a weaving."""
         if self._sessions is None:
-            return (1 << len(self.things)) - 1
-        return self._groups.get(company_order(weaving, self._sessions), 0)
+            return self._every
+        return self._groups.get(company_order(weaving, self._sessions), self.mask([]))
 
     def masks(self, outcomes):
         """Return for each kind the mask of those that give it this outcome, None for one that bars."""
+        none = self.mask([])
         return [
-            None if outcome is None else masks.get(outcome, 0) for masks, outcome in zip(self._masks, outcomes)
+            None if outcome is None else known.get(outcome, none) for known, outcome in zip(self._masks, outcomes)
         ]
 
 
@@ -75,9 +85,9 @@ def with_options(choices, options):
     for mask, rows in choices.items():
         for option, kind in options.items():
             more = rows if kind[1] is None else [*rows, kind]
-            key = mask & option
-            if key not in found or len(more) < len(found[key]):
-                found[key] = more
+            both = common(mask, option)
+            if both not in found or len(more) < len(found[both]):
+                found[both] = more
     return found
 
 
@@ -85,23 +95,23 @@ def useful(rest, plain):
     """Return pairs (mask, kind) of those kinds that leave as little of the rest as any other does."""
     left = {}
     for mask, kind in plain.items():
-        left.setdefault(mask & rest, kind)
+        left.setdefault(common(mask, rest), kind)
     return [
         (mask, kind) for mask, kind in left.items()
-        if not any([other & mask == other and other != mask for other in left])
+        if not any([common(other, mask) == other and other != mask for other in left])
     ]
 
 
 def covering(rest, pairs, many):
     """Return so many kinds at most that leave nothing of the rest, None if no so many do."""
-    if rest == 0:
+    if is_empty(rest):
         return []
     if many == 0:
         return None
-    lowest = rest & -rest
+    number = lowest(rest)
     for mask, kind in pairs:
-        if mask & lowest == 0:
-            more = covering(rest & mask, pairs, many - 1)
+        if not has_number(mask, number):
+            more = covering(common(rest, mask), pairs, many - 1)
             if more is not None:
                 return [kind, *more]
     return None
@@ -124,29 +134,26 @@ class Question:
         self._choices = {whole: []}
         for name in names:
             self._choices = with_options(self._choices, options[name])
-        self._common = whole
+        self._left = whole
         for mask in self._plain:
-            self._common = self._common & mask
+            self._left = common(self._left, mask)
 
     def answers(self):
         """Return numbers of candidates, for each choice one that explains it at least; None if none explains one."""
-        taken = 0
         numbers = []
         for mask in self._choices:
-            both = mask & self._common
-            if both == 0:
+            both = common(mask, self._left)
+            if is_empty(both):
                 return None
-            if both & taken == 0:
-                lowest = both & -both
-                taken = taken | lowest
-                numbers.append(lowest.bit_length() - 1)
+            if not any([has_number(both, number) for number in numbers]):
+                numbers.append(lowest(both))
         return sorted(numbers)
 
     def fewest(self, limit):
         """Return the fewest kinds, fewer than a limit, that no candidate explains together; None if there are none."""
         best = None
         for mask, rows in self._choices.items():
-            if mask & self._common == 0:
+            if is_empty(common(mask, self._left)):
                 pairs = useful(mask, self._plain)
                 for many in range(limit - len(rows)):
                     found = covering(mask, pairs, many)

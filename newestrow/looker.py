@@ -3,6 +3,7 @@
 from newestrow.databases import is_database, place_kinds
 from newestrow.explaining import question_of
 from newestrow.judging import by_orders
+from newestrow.masks import common, has_number, is_empty
 from newestrow.replacing import by_weavings
 from newestrow.shapes import is_integers, is_tuple_of
 from newestrow.weavings import Weavings, is_possible, possible_weavings
@@ -13,13 +14,10 @@ def explains_one(case, candidates, weaving, row):
     if not is_tuple_of(row, 2) or not is_integers(row[0]) or row[0] != weaving or not isinstance(row[1], tuple):
         return False
     whole = candidates.whole(weaving)
-    given = 0
-    for thing in row[1]:
-        bit = candidates.bit_of(thing)
-        if bit & whole == 0:
-            return False
-        given = given | bit
-    return question_of(case, candidates, weaving, given).answers() is not None
+    numbers = [candidates.number_of(thing) for thing in row[1]]
+    if not all([number is not None and has_number(whole, number) for number in numbers]):
+        return False
+    return question_of(case, candidates, weaving, candidates.mask(numbers)).answers() is not None
 
 
 def explains_all(case, candidates, rows):
@@ -44,8 +42,8 @@ def refutes(case, candidates, weaving, database):
         mask = masks[case.all_kinds.index(kind)]
         if mask is None:
             return False
-        rest = rest & mask
-    return rest == 0
+        rest = common(rest, mask)
+    return is_empty(rest)
 
 
 def shows(case, candidates, thing, words):

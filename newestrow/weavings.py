@@ -171,7 +171,7 @@ def is_order(mix, thing, by):
         return False
     merge = []
     for part in thing:
-        if not is_integers(part) or not part or not 0 <= part[0] < len(sequences):
+        if not is_integers(part) or not part:
             return False
         merge.append(part[0])
     if wrong_index(tuple(merge), [len(sequence) for sequence in sequences]) is not None:

@@ -122,6 +122,7 @@ class LeastTest(unittest.TestCase):
         self.assertEqual(self.check(mix, "transactions", True), [[((0, 0),)], [((0, 0),)]])
         self.assertEqual(self.check(mix, "statements", True), [[()], [()]])
         self.assertEqual(self.check(mix, "transactions", False), [[()], [()]])
+        self.assertEqual((least_raised(mix), least_table(mix)), ([((0, 0),)], [((0, 0),)]))
 
     def test_two_have_to_be_changed(self):
         looks = "look where a = 0 / look where a = 1 / commit"
