@@ -37,9 +37,9 @@ class Model:
 
     def shortest_ring(self, number):
         """The number of sessions in a shortest ring of waits through a session, None if there is none."""
-        others = [session.number for session in self.sessions]
-        for many in range(2, len(others) + 1):
-            for ring in itertools.permutations([other for other in others if other != number], many - 1):
+        others = [session.number for session in self.sessions if not session.over and session.number != number]
+        for many in range(2, len(others) + 2):
+            for ring in itertools.permutations(others, many - 1):
                 if self.is_ring((number, *ring)):
                     return many
         return None

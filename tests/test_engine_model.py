@@ -87,7 +87,7 @@ class ModelTest(unittest.TestCase):
 
     def test_random_calls(self):
         chance = random.Random(29)
-        for _ in range(700):
+        for _ in range(2000):
             self.run_calls(chance, chance.choice([1, 2, 2, 3, 3, 4]), 45)
         for name, errors in (("start", [Waits, Ring, "Busy", "BadStatement", "Ended"]), ("visit", [Waits, Ring, Failed, NoTarget, "Ended"]),
                              ("finish", [NoTarget, Unfinished, "Ended"]), ("commit", ["Busy", "Ended"]), ("undo", ["Ended"]),
